@@ -1,0 +1,56 @@
+"""The interface: names, arguments, and the files in which they are defined."""
+
+import importlib
+import inspect
+import os
+import unittest
+
+PACKAGE = os.path.join(os.path.dirname(os.path.dirname(os.path.abspath(__file__))), "pagesworn")
+
+FUNCTIONS = {
+    "forms": """is_integer(thing) is_lot(thing) is_place(thing) is_ticket(thing) is_forest(thing) is_cell(thing)
+        is_house(thing) is_deed(thing) is_wish(thing) places_of(house) readers_of(house) process_of(house,process)
+        snapshot_of(house,snapshot) group_of(house,group)""",
+    "forests": """tickets_with(forest,page) arounds(forest) cover(forest,lot) has_page(forest,page) lets(forest,page)
+        is_let_row(forest,row) lets_counts(forest,counts) spent(forest,page) lessened(forest,lot,number)
+        spent_counts(forest,counts) counts_of(row) most_counts(forest,lot) most(forest,lot)""",
+    "leastforms": """least_form(forest) is_least(forest) are_alike(one,other) is_stricter(one,other)
+        pressing_counts(forest,index) parting_row(one,other)""",
+    "flat": """is_flat(thing) same_shown(house,flat) first_flat() flat_of(house) flat_behind(flat,step,is_done)
+        flat_behind_row(flat,steps) flat_read(flat,process,page)""",
+    "deeds": """behind_deed(house,deed) behind_row(house,deeds) read(house,process,page) write_answer(house,process,page)
+        shown(house,process)""",
+    "wishes": "first_house(frames,slots) behind_wish(house,wish)",
+    "webs": "web_of(house)",
+}
+
+ERRORS = """SwornError NoCommand(line) NoGroup(group) NoPlace(process,page) NoProcess(process) NoSnapshot(snapshot)
+    NoText(line) NoTicket(process,lot) Nothing() TooMany(most) Wrong(place)"""
+
+
+class Interface(unittest.TestCase):
+    def test_functions(self):
+        for name, told in FUNCTIONS.items():
+            module = importlib.import_module("pagesworn." + name)
+            for form in told.split():
+                word, arguments = form[:-1].split("(")
+                with self.subTest(module=name, function=word):
+                    function = getattr(module, word)
+                    self.assertTrue(inspect.isfunction(function))
+                    self.assertEqual(function.__module__, "pagesworn." + name)
+                    self.assertEqual(",".join(inspect.signature(function).parameters), arguments)
+
+    def test_errors(self):
+        module = importlib.import_module("pagesworn.errors")
+        for form in ERRORS.split():
+            word, _, arguments = form.partition("(")
+            with self.subTest(word=word):
+                made = getattr(module, word)
+                self.assertTrue(inspect.isclass(made))
+                self.assertEqual(made.__module__, "pagesworn.errors")
+                if arguments:
+                    names = list(inspect.signature(made.__init__).parameters)[1:]
+                    self.assertEqual(",".join(names), arguments[:-1])
+
+    def test_package_file_is_empty(self):
+        self.assertEqual(os.path.getsize(os.path.join(PACKAGE, "__init__.py")), 0)
