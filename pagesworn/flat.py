@@ -1,7 +1,7 @@
 """Flat memories: what all pages show, as if nothing but common pages were shared."""
 
 from pagesworn.errors import NoPlace, NoProcess, NoSnapshot
-from pagesworn.forms import is_ascending, is_below, is_integer, is_number, is_number_pair, is_row, named_place
+from pagesworn.forms import ascends, is_below, is_integer, is_number, is_number_pair, is_row, named_place
 from pagesworn.forms import named_processes, named_snapshot, places_of, readers_of, row_with, with_row, without_row
 
 
@@ -22,14 +22,14 @@ def is_flat_row(thing, beyond, check):
     for item in pages:
         if not is_row(item, 2) or not is_below(item[0], many) or not check(item[1]):
             return False
-    return is_ascending([item[0] for item in pages])
+    return ascends([item[0] for item in pages])
 
 
 def are_flat_rows(thing, beyond, check):
     """Whether thing can be the processes, or the snapshots, of a flat memory."""
     if not isinstance(thing, tuple) or not all([is_flat_row(row, beyond, check) for row in thing]):
         return False
-    return is_ascending([row[0] for row in thing])
+    return ascends([row[0] for row in thing])
 
 
 def boxes_in_order(processes):

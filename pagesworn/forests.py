@@ -79,8 +79,7 @@ def spent_counts(forest, counts):
 def most_counts(forest, lot):
     """The counts of a longest row of pages of the lot that the forest lets.
 
-    Page by page as many are taken as can be. None of this has to be taken back: from then on the page
-    is in a ticket that is used up, and whatever row is longer has more of one of the pages of those.
+    Page by page as many are taken as can be; that no row is longer is shown by cover.
     """
     counts = ()
     left = forest
@@ -101,8 +100,8 @@ def most(forest, lot):
 def cover(forest, lot):
     """The indexes of tickets that have all pages of the lot, numbers adding up to most.
 
-    Behind a longest row each page of the lot is in tickets that are used up. The outermost ones of these
-    have no page in common, and each page of the row is in one of them.
+    Behind the row of most_counts each page of the lot that has tickets is in one that is used up. The
+    outermost ones of these have no page in common, and their numbers are what the row took of them.
     """
     left = spent_counts(forest, most_counts(forest, lot))
     found = {}

@@ -23,14 +23,14 @@ def is_row(thing, many):
     return isinstance(thing, tuple) and len(thing) == many
 
 
-def is_ascending(things):
+def ascends(things):
     """Whether things that can be compared stand in order, none of them twice."""
     return all([things[index] < things[index + 1] for index in range(len(things) - 1)])
 
 
 def is_lot(thing):
     """Whether thing is a lot of integers from 0 on."""
-    return isinstance(thing, tuple) and all([is_number(item) for item in thing]) and is_ascending(thing)
+    return isinstance(thing, tuple) and all([is_number(item) for item in thing]) and ascends(thing)
 
 
 def is_some_lot(thing):
@@ -50,7 +50,7 @@ def is_place(thing):
 
 def is_lot_of_pairs(thing):
     """Whether thing is a lot of tuples of two integers from 0 on: of places, or of readers."""
-    return isinstance(thing, tuple) and all([is_number_pair(item) for item in thing]) and is_ascending(thing)
+    return isinstance(thing, tuple) and all([is_number_pair(item) for item in thing]) and ascends(thing)
 
 
 def is_ticket(thing):
@@ -63,7 +63,7 @@ def is_forest(thing):
     if not isinstance(thing, tuple) or not all([is_ticket(item) for item in thing]):
         return False
     lots = [ticket[0] for ticket in thing]
-    return is_ascending(lots) and are_nested(lots)
+    return ascends(lots) and are_nested(lots)
 
 
 def are_nested(lots):
@@ -123,7 +123,7 @@ def are_process_rows(thing, groups_many, beyond):
     """Whether thing can be the processes of a house."""
     if not isinstance(thing, tuple) or not all([is_process_row(row, groups_many, beyond) for row in thing]):
         return False
-    return is_ascending([row[0] for row in thing])
+    return ascends([row[0] for row in thing])
 
 
 def is_snapshot_row(thing, beyond):
@@ -138,12 +138,12 @@ def are_snapshot_rows(thing, beyond):
     """Whether thing can be the snapshots of a house; whether their zeros are below many is not asked."""
     if not isinstance(thing, tuple) or not all([is_snapshot_row(row, beyond) for row in thing]):
         return False
-    return is_ascending([row[0] for row in thing])
+    return ascends([row[0] for row in thing])
 
 
 def are_cells(thing):
     """Whether thing is an ascending tuple of cells."""
-    return isinstance(thing, tuple) and all([is_cell(item) for item in thing]) and is_ascending(thing)
+    return isinstance(thing, tuple) and all([is_cell(item) for item in thing]) and ascends(thing)
 
 
 def are_pages_once(pairs, manies):

@@ -99,12 +99,12 @@ def behind_snapshot(house, wish):
     """A snapshot of a process comes."""
     process = wish[1]
     processes, number = house[3]
-    places = places_of_process(house, process)
     cells = []
     for content, sort, held, readers in house[6]:
         new = tuple([(number, page) for at, page in held if at == process])
         if sort == "own":
-            cells.append((content, sort, held, tuple(sorted(readers + new))))
+            # They stand behind all others, as no other snapshot has so great a number.
+            cells.append((content, sort, held, readers + new))
         else:
             cells.append((content, sort, held, readers))
             cells.extend([(content, "own", (), (reader,)) for reader in new])

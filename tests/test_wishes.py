@@ -10,6 +10,7 @@ from pagesworn.errors import NoGroup, NoPlace, NoProcess, NoSnapshot, SwornError
 from pagesworn.forms import is_house, is_wish, places_of, readers_of
 from pagesworn.wishes import behind_wish, first_house
 
+# The house is not kept: it has three cells, and room for two. Page 2 of process 0 is gone.
 PROCESSES = ((0, 1, 4, (((0, 1), 9),)), (2, 0, 2, ()))
 SNAPSHOTS = ((1, 5, (0, 4)),)
 CELLS = ((1, "common", ((0, 3), (2, 0)), ()), (5, "own", ((0, 0),), ((1, 1),)), (6, "own", (), ((1, 3),)))
