@@ -1,6 +1,7 @@
 """Deeds: what processes do by themselves, and what they read."""
 
 from pagesworn.errors import NoPlace, NoTicket
+from pagesworn.flat import content_of_cell
 from pagesworn.forests import lessened, lets, spent
 from pagesworn.forms import group_of, named_group, named_place, named_processes, named_snapshot, places_of, process_of
 from pagesworn.forms import snapshot_of, with_row, without_row
@@ -152,16 +153,11 @@ def behind_row(house, deeds):
 
 def read(house, process, page):
     """The content that a place shows."""
-    index = cell_index(house, process, page)
-    return 0 if index is None else house[6][index][0]
+    return content_of_cell(house[6], cell_index(house, process, page))
 
 
 def shown(house, process):
     """The dict from the pages of a process that are not gone to the contents that they show."""
     process_of(house, process)
     places = places_of(house)
-    found = {}
-    for place in places_of_process(house, process):
-        index = places[place]
-        found[place[1]] = 0 if index is None else house[6][index][0]
-    return found
+    return {place[1]: content_of_cell(house[6], places[place]) for place in places_of_process(house, process)}
