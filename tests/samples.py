@@ -1,9 +1,15 @@
 """Houses, forests, steps and odd values for the tests, the same ones in every run."""
 
+import time
+from contextlib import contextmanager
 from itertools import combinations, product
 
-from pagesworn.errors import NoPlace, Nothing, Wrong
-from pagesworn.forms import is_forest, places_of
+from pagesworn.deeds import behind_deed
+from pagesworn.errors import NoPlace, Nothing, SwornError, Wrong
+from pagesworn.flows import widened
+from pagesworn.forms import is_deed, is_forest, places_of
+from pagesworn.webs import web_of
+from pagesworn.wishes import behind_wish
 
 
 def random_forest(rng, pages, tickets, number):
@@ -112,6 +118,197 @@ def great_house(rng):
     cells += [(index - content, "common", (places[50 + index],), ()) for index in range(10)]
     zeros = tuple(sorted(places[110:]))
     return (10 ** 9 - 1, 10 ** 9 - 1, groups, (78, 22), rows, snapshots, tuple(sorted(cells)), zeros)
+
+
+def ten_tickets(rng, pages, number):
+    """A forest of ten tickets over the pages, whose lots lie within one another, numbers up to number."""
+    parts, lots = [list(pages)], {tuple(pages)}
+    while len(lots) < 10:
+        part = parts.pop(rng.choice([index for index, part in enumerate(parts) if len(part) > 1]))
+        rng.shuffle(part)
+        at = rng.randint(1, len(part) - 1)
+        parts += [part[:at], part[at:]]
+        lots |= {tuple(sorted(part[:at])), tuple(sorted(part[at:]))}
+    lots = sorted(sorted(lots)[:10])
+    return tuple((lot, rng.randint(0, number)) for lot in lots)
+
+
+def tight_house(rng, processes=12, number=3):
+    """A house as great as the bounds of [4] allow, whose tickets, cells and rooms bar one another."""
+    each = 120 // processes
+    places = [(process, page) for process in range(processes) for page in range(each)]
+    rows = tuple((process, process % 6, 60, ten_tickets(rng, range(min(each, 40)), number)) for process in range(processes))
+    snapshots = tuple((snapshot, 15, (snapshot,)) for snapshot in range(8))
+    readers = [(row[0], page) for row in snapshots for page in range(15) if page not in row[2]]
+    zeros = []
+    held, seen = [[] for _ in range(60)], [[] for _ in range(60)]
+    spread_out(rng, places, held + [zeros] * 6)
+    spread_out(rng, readers, seen[:50])
+    found = [(rng.randint(-9, 9) * 10 ** 18, "common" if index > 55 and held[index] else "own", tuple(held[index]), tuple(seen[index]))
+             for index in range(60) if held[index] or seen[index]]
+    rooms = [rng.choice([None, 0, 20, 40, 60]) for _ in range(5)]
+    groups = ((None, None),) + tuple(zip((0, 1, 0, 3, 4), rooms))
+    return (rng.randint(2, 90), rng.randint(0, 30), groups, (processes, 8), rows, snapshots, tuple(sorted(found)), tuple(zeros))
+
+
+def great_houses(rng):
+    """Houses as great as the bounds of [4] allow, of several sorts."""
+    tight = [tight_house(rng, processes, number) for processes in (12, 6, 3) for number in (1, 4, 10 ** 9 - 1)]
+    return tight + [great_house(rng)]
+
+
+def shared_house(rng, processes=4, places=8):
+    """A house in which a few processes in nested groups share most of what they show, with tickets for most of it."""
+    rows, shown = [], []
+    many = rng.randint(1, processes)
+    groups = [(None, None)]
+    for index in range(1, rng.randint(1, 5)):
+        groups.append((rng.randrange(index), rng.choice([None, 1, 2, 3, 4])))
+    for process in range(many):
+        pages = rng.randint(1, max(1, places // many))
+        lots = [lot for lot, _ in random_forest(rng, range(pages), 5, 0)]
+        lots = sorted(set(lots) | ({tuple(range(pages))} if rng.random() < 0.8 else set()))
+        rows.append((process * 2, rng.randrange(len(groups)), pages, tuple((lot, rng.choice((0, 1, 1, 1, 2, 3))) for lot in lots)))
+        shown += [(process * 2, page) for page in range(pages)]
+    seen, zeros, snapshots = [], [], []
+    for snapshot in range(rng.choice((0, 0, 1, 2))):
+        snapshots.append((snapshot, 2, rng.choice(((), (), (1,)))))
+        seen += [(snapshot, page) for page in range(2) if page not in snapshots[-1][2]]
+    held, readers = [[] for _ in range(rng.randint(1, 4))], [[] for _ in range(5)]
+    spread_out(rng, shown, held * 3 + [zeros, zeros, None])
+    spread_out(rng, seen, readers + [None])
+    cells = []
+    for index, part in enumerate(readers):
+        places_there = tuple(held[index]) if index < len(held) else ()
+        if places_there or part:
+            sort = "common" if places_there and not part and rng.random() < 0.2 else "own"
+            cells.append((rng.randint(-2, 9), sort, places_there, tuple(part)))
+    return (rng.randint(2, 5), rng.randint(0, 3), tuple(groups), (processes * 2, 3), tuple(rows), tuple(snapshots),
+            tuple(sorted(cells)), tuple(zeros))
+
+
+def small_house(rng):
+    """A house of which all that can be done there can be gone through."""
+    while True:
+        house = random_house(rng, 3, 3, 2, 3) if rng.random() < 0.2 else shared_house(rng, 3, 6)
+        if 1 <= len(places_of(house)) <= 6:
+            return house
+
+
+def any_house(rng):
+    """A house that is not great, of any sort."""
+    return random_house(rng) if rng.random() < 0.3 else shared_house(rng)
+
+
+def with_limits(house, needs, group_needs, rng):
+    """The house in which capacity and the rooms are just what is needed, one less or one more, so far as they can be."""
+    total = max(2, needs + rng.choice((-1, 0, 0, 1)))
+    slots = rng.randint(0, total - 2)
+    groups = [(None, None)]
+    for row, many in list(zip(house[2], group_needs))[1:]:
+        groups.append((row[0], rng.choice([None, max(0, many + rng.choice((-1, 0, 0, 1)))])))
+    return (total - slots, slots, tuple(groups)) + house[3:]
+
+
+def chain_web(many):
+    """A web in which one place can come only if all others exchange places, one behind the other.
+
+    Process n has the pages 0 and 1, and may copy one; page 1 is in the cell of page 0 of the next process.
+    The flow that has all pages 1 but the last process's can be widened only by page 0 of the last one.
+    """
+    tickets = tuple((process, (0, 1), 1, None) for process in range(many))
+    places = tuple(((process, page), process, process + page) for process in range(many) for page in (0, 1))
+    web = (tickets, places[:-1], (1,) * many)
+    return web, tuple((process, 1) for process in range(many - 1))
+
+
+def random_web(rng):
+    """A web of a few processes whose places are in a few cells, the numbers being any."""
+    numbers = rng.choice([(0, 1, 1, 1, 2), (1, 1, 1, 2), (0, 1, 2, 3, 10 ** 9 - 1)])
+    processes = rng.randint(1, 4)
+    rows, places = [], []
+    for process in range(processes):
+        pages = rng.randint(1, 10 // processes)
+        lots = random_forest(rng, range(pages), 4, 0) or (((0,), 0),)
+        rows.append((process, 0, pages, tuple((lot, rng.choice(numbers)) for lot, _ in lots)))
+        places += [(process, page) for page in range(pages)]
+    zeros, held = [], [[] for _ in range(rng.randint(0, 4))]
+    spread_out(rng, places, held * 3 + [zeros, None])
+    cells = sorted((0, "own", tuple(part), ()) for part in held if part)
+    house = (2, 0, ((None, None),), (processes, 0), tuple(rows), (), tuple(cells), tuple(zeros))
+    return web_of(house)[:2] + (tuple(rng.choice(numbers) for _ in cells),)
+
+
+def some_flow(rng, web, lets):
+    """A flow of the web to which nothing can simply be put, or one that is shorter."""
+    chosen = []
+    places = [row[0] for row in web[1]]
+    rng.shuffle(places)
+    for place in places[:rng.choice((len(places), len(places), rng.randint(0, len(places))))]:
+        if lets(web, tuple(sorted(chosen + [place]))):
+            chosen.append(place)
+    return tuple(sorted(chosen))
+
+
+def any_greatest_flow(rng, web, lets):
+    """One of the greatest flows of the web, left to chance."""
+    flow = some_flow(rng, web, lets)
+    longer = widened(web, flow)
+    while longer is not None:
+        flow = longer
+        longer = widened(web, flow)
+    return flow
+
+
+def named_steps(rng, house, many):
+    """Several deeds and wishes that name what is there, each with the house behind it."""
+    found = []
+    while len(found) < many:
+        step = random_step(rng, house)
+        try:
+            found.append((step, behind_deed(house, step)[0] if is_deed(step) else behind_wish(house, step)))
+        except SwornError:
+            pass
+    return found
+
+
+def named_wishes(rng, house, many):
+    """Several wishes that name what is there, each with the house behind it."""
+    found = []
+    while len(found) < many:
+        found += [pair for pair in named_steps(rng, house, many) if not is_deed(pair[0])]
+    return found[:many]
+
+
+def near_limits(house, wish, needs, group_needs, at, more):
+    """A house and a wish of the same sort, of which the house behind has just what it needs, whose needs are told.
+
+    Only at one place, None for capacity, or a group, it has so many more. None if there can be no such house.
+    """
+    frames = needs + (more if at is None else 0)
+    rooms = [None] + [many + (more if group == at else 0) for group, many in list(enumerate(group_needs))[1:]]
+    if frames < 2 or any(room is not None and room < 0 for room in rooms):
+        return None
+    groups = tuple(zip([row[0] for row in house[2]], rooms))
+    if wish[0] == "frames":
+        return (9, frames - 2, groups) + house[3:], ("frames", 2)
+    if wish[0] == "slots":
+        return (2, 9, groups) + house[3:], ("slots", frames - 2)
+    if wish[0] == "room":
+        group = wish[1]
+        other = groups[:group] + ((groups[group][0], 7),) + groups[group + 1:]
+        return (frames, 0, other) + house[3:], ("room", group, rooms[group])
+    if wish[0] == "group":
+        return (frames, 0, groups) + house[3:], wish[:2] + (rooms[-1],)
+    return (frames - 2, 2, groups) + house[3:] if frames > 3 else (2, frames - 2, groups) + house[3:], wish
+
+
+@contextmanager
+def moments(test):
+    """What is done here ends within moments."""
+    began = time.monotonic()
+    yield
+    test.assertLess(time.monotonic() - began, 20)
 
 
 def random_step(rng, house, reach=6):

@@ -345,3 +345,222 @@ class House:
 
     def do_slots(self, many):
         self.slots = many
+
+
+def largest(things, lets):
+    """The greatest number of things that are let together; of what is let all parts are let, too."""
+    best = 0
+
+    def go(at, chosen):
+        nonlocal best
+        best = max(best, len(chosen))
+        for index in range(at, len(things)):
+            if lets(chosen + [things[index]]):
+                go(index + 1, chosen + [things[index]])
+
+    go(0, [])
+    return best
+
+
+def flow_lets(house, chosen):
+    """Whether these places are such as FLOW of [2] counts."""
+    _, _, _, _, processes, _, cells, zeros = house
+    own = [item for item in cells if item[1] == "own"]
+    for place in chosen:
+        if place not in zeros and not any(place in item[2] for item in own):
+            return False
+    for item in own:
+        h, r, many = len(item[2]), len(item[3]), len(set(item[2]) & set(chosen))
+        if many > h or many > h + r - 1:
+            return False
+    for number, _, _, tickets in processes:
+        pages = [page for process, page in chosen if process == number]
+        if not all(any(page in held for held, _ in tickets) for page in pages):
+            return False
+        if any(len(set(pages) & set(held)) > most for held, most in tickets):
+            return False
+    return True
+
+
+def flow(house):
+    places = [place for item in house[6] for place in item[2]] + list(house[7])
+    return largest(places, lambda chosen: flow_lets(house, chosen))
+
+
+def need(house):
+    return len(house[6]) + flow(house)
+
+
+def within(house, group, other):
+    return group == other or (group != 0 and within(house, house[2][group][0], other))
+
+
+def leaving(house, group):
+    """The deeds by which all go that are not within the group."""
+    exits = [("exit", row[0]) for row in house[4] if not within(house, row[1], group)]
+    return exits + [("forget", row[0]) for row in house[5]]
+
+
+def behind(house, steps):
+    told = House(house)
+    for step in steps:
+        told.do(step)
+    return told.tuple()
+
+
+def inside(house, group):
+    return behind(house, leaving(house, group))
+
+
+def group_live(house, group):
+    group_of = {row[0]: row[1] for row in house[4]}
+    return sum(1 for _, _, places, readers in house[6]
+               if places and not readers and all(within(house, group_of[place[0]], group) for place in places))
+
+
+def broken(house):
+    """What keeps the house from being kept: None for capacity, and groups, in order."""
+    found = [None] if need(house) > house[0] + house[1] else []
+    return found + [group for group, row in enumerate(house[2]) if row[1] is not None and need(inside(house, group)) > row[1]]
+
+
+def walk(house, most):
+    """All houses that come by copies of what is shown, drops, exits and forgets, each with the fewest deeds that
+    lead there; None if they are more than most."""
+    met = {house: 0}
+    row = [house]
+    for ahead in row:
+        for deed in walking(ahead):
+            told = House(ahead)
+            told.do(deed)
+            later = told.tuple()
+            if later not in met:
+                met[later] = met[ahead] + 1
+                row.append(later)
+                if len(row) > most:
+                    return None
+    return met
+
+
+def walking(house):
+    told = House(house)
+    for number, row in told.processes.items():
+        yield ("exit", number)
+        for page in told.pages(number):
+            yield ("drop", number, page)
+            one = told.cell((number, page))
+            alone = one and (one.sort == "common" or (len(one.places) == 1 and not one.readers))
+            if not alone and lets(row[2], page):
+                yield ("write", number, page, one.content if one else 0)
+    for number in told.snapshots:
+        yield ("forget", number)
+
+
+def web(house):
+    """The web by the words of [19]."""
+    tickets = [(row[0], held, number) for row in house[4] for held, number in row[3]]
+
+    def innermost(process, pages, beside=None):
+        held = [index for index, item in enumerate(tickets)
+                if item[0] == process and pages <= set(item[1]) and index != beside]
+        return min(held, key=lambda index: len(tickets[index][1]), default=None)
+
+    found = tuple((process, held, number, innermost(process, set(held), index))
+                  for index, (process, held, number) in enumerate(tickets))
+    cell_at = {place: (index, item[1]) for index, item in enumerate(house[6]) for place in item[2]}
+    cell_at.update({place: (None, "own") for place in house[7]})
+    places = []
+    for place in sorted(cell_at):
+        index = innermost(place[0], {place[1]})
+        if cell_at[place][1] == "own" and index is not None:
+            places.append((place, index, cell_at[place][0]))
+    cells = tuple(0 if item[1] == "common" else min(len(item[2]), len(item[2]) + len(item[3]) - 1) for item in house[6])
+    return found, tuple(places), cells
+
+
+def held_by(web, index):
+    """The ticket of the place at index of a web, and all around this."""
+    found = []
+    at = web[1][index][1]
+    while at is not None:
+        found.append(at)
+        at = web[0][at][3]
+    return found
+
+
+def is_flow(web, thing):
+    if not lot(thing, pair) or not all(place in [row[0] for row in web[1]] for place in thing):
+        return False
+    indexes = [index for index, row in enumerate(web[1]) if row[0] in thing]
+    held = [at for index in indexes for at in held_by(web, index)]
+    if any(held.count(at) > item[2] for at, item in enumerate(web[0])):
+        return False
+    cells = [web[1][index][2] for index in indexes]
+    return all(cells.count(at) <= number for at, number in enumerate(web[2]))
+
+
+def most_of_flows(web):
+    """How many places the greatest flow of a web has."""
+    return largest([row[0] for row in web[1]], lambda chosen: is_flow(web, tuple(chosen)))
+
+
+def is_cut(web, thing):
+    if type(thing) is not tuple or len(thing) != 3:
+        return False
+    for part, things in zip(thing, web):
+        if not lot(part) or not all(index in range(len(things)) for index in part):
+            return False
+    tickets, places, cells = thing
+    for index, row in enumerate(web[1]):
+        if index not in places and row[2] not in cells and not set(tickets) & set(held_by(web, index)):
+            return False
+    return True
+
+
+def size_of_cut(web, cut):
+    return sum(web[0][index][2] for index in cut[0]) + len(cut[1]) + sum(web[2][index] for index in cut[2])
+
+
+def staying(web, flow):
+    """What stays of the flow of another web, by the rule of [23]."""
+    index_of = {row[0]: index for index, row in enumerate(web[1])}
+    left = [place for place in flow if place in index_of]
+    for cell, number in enumerate(web[2]):
+        held = [place for place in left if web[1][index_of[place]][2] == cell]
+        left = [place for place in left if place not in sorted(held)[number:]]
+    for at in sorted(range(len(web[0])), key=lambda index: len(web[0][index][1])):
+        held = [place for place in left if at in held_by(web, index_of[place])]
+        left = [place for place in left if place not in sorted(held)[web[0][at][2]:]]
+    return tuple(left)
+
+
+def is_grant_paper(house, wish, thing):
+    """Whether thing is a grant paper, by the words of [25]."""
+    later = behind(house, [wish])
+    parts = [(None, later, later[0] + later[1])]
+    parts += [(group, inside(later, group), row[1]) for group, row in enumerate(later[2]) if row[1] is not None]
+    if type(thing) is not tuple or len(thing) != len(parts):
+        return False
+    for row, (group, part, most) in zip(thing, parts):
+        if type(row) is not tuple or len(row) != 2 or type(row[0]) is not type(group) or row[0] != group:
+            return False
+        if not is_cut(web(part), row[1]) or len(part[6]) + size_of_cut(web(part), row[1]) > most:
+            return False
+    return True
+
+
+def is_refusal_paper(house, wish, thing):
+    """Whether thing is a refusal paper, by the words of [26]."""
+    if type(thing) is not tuple or len(thing) != 2 or type(thing[1]) is not tuple:
+        return False
+    told = House(behind(house, [wish]))
+    for step in thing[1]:
+        if not deed(step) or told.error(step) is not None:
+            return False
+        told.do(step)
+    group, last = thing[0], told.tuple()
+    if group is None:
+        return len(last[6]) > last[0] + last[1]
+    if not integer(group, 0) or group >= len(last[2]) or last[2][group][1] is None:
+        return False
+    return group_live(last, group) > last[2][group][1]

@@ -7,6 +7,7 @@ import unittest
 
 HERE = os.path.dirname(os.path.abspath(__file__))
 FOLDER = os.path.join(HERE, "examples")
+NAMES = "cuts flat forests forms grants inside need steps worths".split()
 
 
 class Examples(unittest.TestCase):
@@ -17,7 +18,7 @@ class Examples(unittest.TestCase):
 
     def test_each_example(self):
         names = sorted(os.listdir(FOLDER))
-        self.assertEqual(names, ["flat.txt", "forests.txt", "forms.txt", "steps.txt", "webs.txt"])
+        self.assertEqual(names, [name + ".txt" for name in NAMES])
         for name in names:
             with self.subTest(name=name), open(os.path.join(FOLDER, name), encoding="utf-8") as file:
                 self.holds(file.read(), name)

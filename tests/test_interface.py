@@ -22,6 +22,17 @@ FUNCTIONS = {
         shown(house,process)""",
     "wishes": "first_house(frames,slots) behind_wish(house,wish)",
     "webs": "web_of(house)",
+    "flows": "is_flow(web,thing) greatest_flow(web) flow_many(web) widened(web,flow)",
+    "cuts": "is_cut(web,thing) size_of_cut(web,cut) least_cut(web)",
+    "need": "live(house) capacity(house) flow_of(house) need(house) most_by_walking(house) reaching_row(house)",
+    "keptflow": "flow_behind(house,flow,deed) flow_behind_wish(house,flow,wish) widened_many(house,flow,deed)",
+    "inside": """is_within(house,group,other) is_kept(house) members(house,group) leaving_row(house,group) group_needs(house)
+        inside(house,group) group_live(house,group) group_need(house,group) spare(house,group) first_broken(house)""",
+    "grants": "is_granted(house,wish) is_grant_paper(house,wish,thing) grant_paper(house,wish)",
+    "refusals": "is_refusal_paper(house,wish,thing) refusal_paper(house,wish) answer_to(house,wish)",
+    "worths": """worth_of(house,process,lot) worth_within(house,group,process,lot) idle_part(house,process,lot)
+        most_raise(house,process,lot) gives_back(house,wish,process,lot) idle(house) who_can_give(house,wish)
+        deeds_that_help(house,wish)""",
 }
 
 ERRORS = """SwornError NoCommand(line) NoGroup(group) NoPlace(process,page) NoProcess(process) NoSnapshot(snapshot)

@@ -4,31 +4,10 @@ import random
 import unittest
 
 import samples
+import slow
 from pagesworn.forms import places_of
 from pagesworn.webs import web_of
 from pagesworn.wishes import behind_wish, first_house
-
-
-def slow_web(house):
-    """The web by the words of [19]."""
-    tickets = [(row[0], lot, number) for row in house[4] for lot, number in row[3]]
-
-    def innermost(process, pages, beside=None):
-        held = [index for index, ticket in enumerate(tickets)
-                if ticket[0] == process and pages <= set(ticket[1]) and index != beside]
-        return min(held, key=lambda index: len(tickets[index][1]), default=None)
-
-    rows = tuple((process, lot, number, innermost(process, set(lot), index))
-                 for index, (process, lot, number) in enumerate(tickets))
-    cell_at = {place: (index, cell[1]) for index, cell in enumerate(house[6]) for place in cell[2]}
-    cell_at.update({place: (None, "own") for place in house[7]})
-    places = []
-    for place in sorted(cell_at):
-        ticket = innermost(place[0], {place[1]})
-        if cell_at[place][1] == "own" and ticket is not None:
-            places.append((place, ticket, cell_at[place][0]))
-    cells = tuple(0 if cell[1] == "common" else min(len(cell[2]), len(cell[2]) + len(cell[3]) - 1) for cell in house[6])
-    return rows, tuple(places), cells
 
 
 class Webs(unittest.TestCase):
@@ -63,7 +42,7 @@ class Webs(unittest.TestCase):
         rng = random.Random(19)
         for house in [samples.random_house(rng) for _ in range(800)] + [samples.great_house(rng) for _ in range(4)]:
             web = web_of(house)
-            self.assertEqual(web, slow_web(house))
+            self.assertEqual(web, slow.web(house))
             self.assertEqual(web_of(house), web)
             self.assertEqual(list(web[1]), sorted(web[1]))
             self.assertLessEqual({row[0] for row in web[1]}, set(places_of(house)))
