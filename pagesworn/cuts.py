@@ -1,6 +1,6 @@
 """Cuts: what holds all places of a web, and so shows that no flow is greater."""
 
-from pagesworn.flows import Net, greatest_flow, has_place
+from pagesworn.flows import Net, greatest_flow, outwards
 from pagesworn.forms import is_lot, is_row
 
 
@@ -12,8 +12,8 @@ def is_lot_below(thing, beyond):
 def is_held(web, cut, index):
     """Whether the place at index is held by a part of the cut."""
     tickets, places, cells = cut
-    place, _, cell = web[1][index]
-    return index in places or cell in cells or any([has_place(web[0][at], place) for at in tickets])
+    _, ticket, cell = web[1][index]
+    return index in places or cell in cells or any([at in tickets for at in outwards(web[0], ticket)])
 
 
 def is_cut(web, thing):

@@ -3,13 +3,28 @@
 from pagesworn.forms import is_lot_of_pairs
 
 
+def outwards(tickets, index):
+    """The index of a ticket of a web, and of all around it, from the innermost one out."""
+    found = []
+    at = index
+    while at is not None:
+        found.append(at)
+        at = tickets[at][3]
+    return found
+
+
+def tickets_of(web):
+    """For each place of a web the indexes of its ticket and of all around this."""
+    return {row[0]: outwards(web[0], row[1]) for row in web[1]}
+
+
 class Net:
     """A web and a flow in it, laid out so that a road can be looked for by which the flow is widened.
 
     A road begins at an outermost ticket with room, and leads on from each ticket to those just within it that
     have room, and over a place that is not in the flow to its cell. It ends where this has room, or is zeros.
     From a full cell it leads on over each place of the flow that could give way, to the ticket of this place;
-    and out of a ticket of which something is used to the one around it, as this then has no place more.
+    and out of a ticket in which a place gives way to the one around it, as this then has no place more.
     """
 
     def __init__(self, web, flow):
@@ -37,15 +52,6 @@ class Net:
         """The flow."""
         return tuple([row[0] for index, row in enumerate(self.places) if self.is_in[index]])
 
-    def outwards(self, ticket):
-        """The ticket and all around it, from the innermost one out."""
-        found = []
-        at = ticket
-        while at is not None:
-            found.append(at)
-            at = self.tickets[at][3]
-        return found
-
     def turn(self, index):
         """Puts a place into the flow, or takes it out if it is there."""
         _, ticket, cell = self.places[index]
@@ -53,7 +59,7 @@ class Net:
         self.is_in[index] = not self.is_in[index]
         if cell is not None:
             self.used_of_cells[cell] += by
-        for at in self.outwards(ticket):
+        for at in outwards(self.tickets, ticket):
             self.used_of_tickets[at] += by
 
     def has_ticket_room(self, ticket):
@@ -69,21 +75,22 @@ class Net:
         _, ticket, cell = self.places[index]
         if self.is_in[index] or not self.has_cell_room(cell):
             return False
-        return all([self.has_ticket_room(at) for at in self.outwards(ticket)])
+        return all([self.has_ticket_room(at) for at in outwards(self.tickets, ticket)])
 
     def fill(self):
-        """Puts all places into the flow, in order, that can simply come."""
+        """Puts all places into the flow, in order, that can simply come: for them no road has to be looked for."""
         for index in range(len(self.places)):
             if self.can_simply_come(index):
                 self.turn(index)
 
     def next_tickets(self, ticket):
-        """The tickets to which a road leads on from a ticket, over no place."""
+        """The tickets to which a road leads on from a ticket, over no place.
+
+        If the road did not come from the one around it, a place gives way within it: so it can go out again.
+        """
         found = [index for index in self.within[ticket] if self.has_ticket_room(index)]
         above = self.tickets[ticket][3]
-        if above is not None and self.used_of_tickets[ticket] > 0:
-            found.append(above)
-        return found
+        return found if above is None else found + [above]
 
     def look(self):
         """All that roads lead to, until one ends: a tuple (came, full, last).
@@ -138,24 +145,16 @@ class Net:
         return last is not None
 
 
-def has_place(ticket, place):
-    """Whether a ticket of a web has the page of a place of its process."""
-    return ticket[0] == place[0] and place[1] in ticket[1]
-
-
 def is_flow(web, thing):
     """Whether thing is a flow of the web."""
-    if not is_lot_of_pairs(thing):
+    tickets_at = tickets_of(web)
+    if not is_lot_of_pairs(thing) or not all([place in tickets_at for place in thing]):
         return False
-    tickets, places, cells = web
-    cell_at = {row[0]: row[2] for row in places}
-    if not all([place in cell_at for place in thing]):
+    tickets = [index for place in thing for index in tickets_at[place]]
+    cells = [row[2] for row in web[1] if row[0] in thing]
+    if not all([tickets.count(index) <= row[2] for index, row in enumerate(web[0])]):
         return False
-    for ticket in tickets:
-        if len([place for place in thing if has_place(ticket, place)]) > ticket[2]:
-            return False
-    held = [cell_at[place] for place in thing]
-    return all([held.count(cell) <= number for cell, number in enumerate(cells)])
+    return all([cells.count(index) <= number for index, number in enumerate(web[2])])
 
 
 def widened_wholly(web, flow):

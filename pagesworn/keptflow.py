@@ -1,46 +1,27 @@
 """A flow that is kept: led on from deed to deed, and from wish to wish."""
 
 from pagesworn.deeds import behind_deed
-from pagesworn.flows import has_place, widened_wholly
+from pagesworn.flows import tickets_of, widened_wholly
 from pagesworn.webs import web_of
 from pagesworn.wishes import behind_wish
 
 
-def fitting_cells(web, flow):
-    """What stays of an ascending tuple of places of the web: of each cell so many as it tells, the least ones."""
-    cell_at = {row[0]: row[2] for row in web[1]}
-    left = list(web[2])
-    kept = []
-    for place in flow:
-        cell = cell_at[place]
-        if cell is None:
-            kept.append(place)
-        elif left[cell] > 0:
-            left[cell] -= 1
-            kept.append(place)
-    return tuple(kept)
-
-
-def fitting_ticket(ticket, flow):
-    """What stays of an ascending tuple of places: with the ticket so many as its number, the least ones."""
-    left = ticket[2]
-    kept = []
-    for place in flow:
-        if not has_place(ticket, place):
-            kept.append(place)
-        elif left > 0:
-            left -= 1
-            kept.append(place)
-    return tuple(kept)
+def thinned(places, sharers, most):
+    """The list of places without those of its sharers, ascending, that are more than most: the greatest ones."""
+    going = sharers[most:]
+    return [place for place in places if place not in going]
 
 
 def fitted(web, flow):
     """What stays of the flow of another web: a flow of this one, made by the rule of [23]."""
-    known = {row[0]: True for row in web[1]}
-    kept = fitting_cells(web, tuple([place for place in flow if place in known]))
-    for ticket in sorted(web[0], key=lambda row: len(row[1])):
-        kept = fitting_ticket(ticket, kept)
-    return kept
+    tickets_at = tickets_of(web)
+    cell_at = {row[0]: row[2] for row in web[1]}
+    kept = [place for place in flow if place in cell_at]
+    for index, number in enumerate(web[2]):
+        kept = thinned(kept, [place for place in kept if cell_at[place] == index], number)
+    for index in sorted(range(len(web[0])), key=lambda at: len(web[0][at][1])):
+        kept = thinned(kept, [place for place in kept if index in tickets_at[place]], web[0][index][2])
+    return tuple(kept)
 
 
 def led_on(behind, flow):

@@ -2,7 +2,7 @@
 
 from pagesworn.deeds import behind_deed
 from pagesworn.errors import NoTicket
-from pagesworn.flows import greatest_flow, has_place, widened_wholly
+from pagesworn.flows import greatest_flow, tickets_of, widened_wholly
 from pagesworn.forms import group_of, is_lot, named_processes, named_snapshot, process_of
 from pagesworn.grants import is_granted
 from pagesworn.inside import inside, is_kept, is_within, limits_of
@@ -45,8 +45,8 @@ def worth_in(web, index):
 
 def part_of(web, flow, index):
     """By how much a greatest flow of the web shrinks as the ticket at index is lessened to 0."""
-    ticket = web[0][index]
-    kept = tuple([place for place in flow if not has_place(ticket, place)])
+    tickets_at = tickets_of(web)
+    kept = tuple([place for place in flow if index not in tickets_at[place]])
     return len(flow) - len(widened_wholly(with_number(web, index, 0), kept))
 
 

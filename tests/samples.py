@@ -8,6 +8,8 @@ from pagesworn.deeds import behind_deed
 from pagesworn.errors import NoPlace, Nothing, SwornError, Wrong
 from pagesworn.flows import widened
 from pagesworn.forms import is_deed, is_forest, places_of
+from pagesworn.inside import group_needs
+from pagesworn.need import need
 from pagesworn.webs import web_of
 from pagesworn.wishes import behind_wish
 
@@ -239,6 +241,21 @@ def random_web(rng):
     return web_of(house)[:2] + (tuple(rng.choice(numbers) for _ in cells),)
 
 
+def nested_web(rng, processes, pages, cells):
+    """A web of many nested tickets and full cells, in which several roads lead one over the other."""
+    rows, places = [], []
+    for process in range(processes):
+        many = rng.randint(1, pages)
+        lots = {lot for lot, _ in random_forest(rng, range(many), 8, 0)} | {tuple(range(many))}
+        rows.append((process, 0, many, tuple((lot, rng.randint(1, len(lot) // 2 + 1)) for lot in sorted(lots))))
+        places += [(process, page) for page in range(many)]
+    held = [[] for _ in range(cells)]
+    spread_out(rng, places, held)
+    found = tuple(sorted((0, "own", tuple(part), ()) for part in held if part))
+    tickets, places, _ = web_of((2, 0, ((None, None),), (processes, 0), tuple(rows), (), found, ()))
+    return (tickets, places, tuple(rng.randint(1, 2) for _ in found))
+
+
 def some_flow(rng, web, lets):
     """A flow of the web to which nothing can simply be put, or one that is shorter."""
     chosen = []
@@ -301,6 +318,29 @@ def near_limits(house, wish, needs, group_needs, at, more):
     if wish[0] == "group":
         return (frames, 0, groups) + house[3:], wish[:2] + (rooms[-1],)
     return (frames - 2, 2, groups) + house[3:] if frames > 3 else (2, frames - 2, groups) + house[3:], wish
+
+
+def cases_near_limits(rng, many, wishes):
+    """Tuples (at, house, wish): behind the wish so many houses need just what there is, or up to two more at one place."""
+    for _ in range(many):
+        house = shared_house(rng)
+        for wish, behind in named_wishes(rng, house, wishes):
+            groups = group_needs(behind)
+            at = rng.choice([None] + list(range(1, len(groups))))
+            near = near_limits(house, wish, need(behind), groups, at, rng.choice((0, -1, -1, -2)))
+            if near is not None:
+                yield (at,) + near
+
+
+def agreed(test, function, told, ahead, things):
+    """The answers of a function to each of the things, which all are what the other one tells, True or False."""
+    answers = []
+    for thing in things:
+        answer = function(*ahead, thing)
+        answers.append(answer)
+        if answer is not told(*ahead, thing):
+            test.fail(f"{function.__name__} of {thing!r} is {answer!r}")
+    return answers
 
 
 @contextmanager

@@ -28,13 +28,7 @@ def all_cuts(web):
 
 class IsCut(unittest.TestCase):
     def holds(self, web, things):
-        answers = []
-        for thing in things:
-            answer = is_cut(web, thing)
-            answers.append(answer)
-            if answer is not slow.is_cut(web, thing):
-                self.fail(f"is_cut of {thing!r} is {answer!r}")
-        return answers
+        return samples.agreed(self, is_cut, slow.is_cut, (web,), things)
 
     def test_cuts(self):
         self.assertEqual(self.holds(WEB, CUTS), [True] * len(CUTS))
@@ -112,6 +106,17 @@ class Least(unittest.TestCase):
         self.hold(((), (), ()))
         for _ in range(1500):
             self.hold(samples.random_web(rng))
+
+    def test_nested_webs(self):
+        """Too great to go through all flows: the cut shows that the flow, which is one, is a greatest one."""
+        rng = random.Random(30)
+        for _ in range(1200):
+            web = samples.nested_web(rng, 8, 6, 16)
+            self.hold(web)
+            self.assertTrue(slow.is_flow(web, greatest_flow(web)))
+        for sizes in ((12, 10, 30), (10, 8, 30), (6, 20, 25)):
+            for _ in range(60):
+                self.hold(samples.nested_web(rng, *sizes))
 
     def test_a_flow_and_a_cut_show_one_another(self):
         """No flow is greater than any cut."""

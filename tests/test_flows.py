@@ -19,13 +19,7 @@ GREATEST = ((0, 1), (0, 2), (2, 2))
 
 class IsFlow(unittest.TestCase):
     def holds(self, web, things):
-        answers = []
-        for thing in things:
-            answer = is_flow(web, thing)
-            answers.append(answer)
-            if answer is not slow.is_flow(web, thing):
-                self.fail(f"is_flow of {thing!r} is {answer!r}")
-        return answers
+        return samples.agreed(self, is_flow, slow.is_flow, (web,), things)
 
     def test_all_lots_of_places(self):
         places = [row[0] for row in PLACES]

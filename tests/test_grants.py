@@ -88,13 +88,7 @@ class Granted(unittest.TestCase):
 
 class Papers(unittest.TestCase):
     def holds(self, house, wish, things):
-        answers = []
-        for thing in things:
-            answer = is_grant_paper(house, wish, thing)
-            answers.append(answer)
-            if answer is not slow.is_grant_paper(house, wish, thing):
-                self.fail(f"is_grant_paper of {thing!r} is {answer!r}")
-        return answers
+        return samples.agreed(self, is_grant_paper, slow.is_grant_paper, (house, wish), things)
 
     def test_tuples_out_twice_and_out_of_order(self):
         paper = grant_paper(HOUSE, WISH)

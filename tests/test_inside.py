@@ -59,6 +59,8 @@ class Within(unittest.TestCase):
                 with self.subTest(name=name), self.assertRaises(NoGroup) as caught:
                     FUNCTIONS[name](HOUSE, group)
                 self.assertEqual(vars(caught.exception), {"group": group})
+                with self.subTest(name=name), self.assertRaises(NoGroup):
+                    FUNCTIONS[name](first_house(2, 0), group)
             for pair, first in (((group, 0), group), ((0, group), group), ((group, 77), group), ((77, group), 77)):
                 with self.assertRaises(NoGroup) as caught:
                     is_within(HOUSE, *pair)

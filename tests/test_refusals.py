@@ -99,16 +99,10 @@ class Beyond(unittest.TestCase):
         """Capacity, or one room, is by so many less than what the house behind the wish needs."""
         rng = random.Random(80)
         seen = {}
-        for _ in range(250):
-            house = samples.any_house(rng)
-            for wish, behind in samples.named_wishes(rng, house, 3):
-                needs, groups = need(behind), group_needs(behind)
-                at = rng.choice([None] + list(range(1, len(groups))) * 2)
-                near = samples.near_limits(house, wish, needs, groups, at, rng.choice((0, -1, -1, -2, -3)))
-                if near is not None:
-                    told = self.hold(*near, behind_wish(*near))
-                    self.assertIn(told, (at, "granted"))
-                    seen[wish[0], told if told in (None, "granted") else "group"] = True
+        for at, house, wish in samples.cases_near_limits(rng, 250, 3):
+            told = self.hold(house, wish, behind_wish(house, wish))
+            self.assertIn(told, (at, "granted"))
+            seen[wish[0], told if told in (None, "granted") else "group"] = True
         for word in set(slow.STEPS) - set(slow.DEEDS):
             self.assertIn((word, None), seen)
             self.assertTrue((word, "group") in seen or word == "group", word)
@@ -151,13 +145,7 @@ class Papers(unittest.TestCase):
     ROW = (("exit", 0), ("exit", 5), ("forget", 0), ("forget", 2))
 
     def holds(self, house, wish, things):
-        answers = []
-        for thing in things:
-            answer = is_refusal_paper(house, wish, thing)
-            answers.append(answer)
-            if answer is not slow.is_refusal_paper(house, wish, thing):
-                self.fail(f"is_refusal_paper of {thing!r} is {answer!r}")
-        return answers
+        return samples.agreed(self, is_refusal_paper, slow.is_refusal_paper, (house, wish), things)
 
     def test_writes_that_are_needed(self):
         """Members hold just four cells behind the row; a fifth one comes by a copy of theirs alone."""

@@ -178,15 +178,8 @@ class GivesBack(unittest.TestCase):
         """Near the limits, of capacity or of a room, for wishes of all sorts."""
         rng = random.Random(95)
         seen = {}
-        for _ in range(250):
-            house = samples.shared_house(rng)
-            for wish, behind in samples.named_wishes(rng, house, 4):
-                needs, groups = need(behind), group_needs(behind)
-                at = rng.choice([None] + list(range(1, len(groups))))
-                near = samples.near_limits(house, wish, needs, groups, at, rng.choice((0, -1, -1, -2)))
-                if near is not None:
-                    given = self.hold(*near)
-                    seen[wish[0], at is None, len(given) > 0] = True
+        for at, house, wish in samples.cases_near_limits(rng, 250, 4):
+            seen[wish[0], at is None, self.hold(house, wish) != []] = True
         for word in set(slow.STEPS) - set(slow.DEEDS) - {"group"}:
             self.assertIn((word, True, True), seen)
             self.assertTrue((word, False, True) in seen, word)
@@ -247,15 +240,9 @@ class Helping(unittest.TestCase):
     def test_against_going_through(self):
         rng = random.Random(97)
         seen = {}
-        for _ in range(300):
-            house = samples.shared_house(rng)
-            for wish, behind in samples.named_wishes(rng, house, 4):
-                needs, groups = need(behind), group_needs(behind)
-                at = rng.choice([None] + list(range(1, len(groups))))
-                near = samples.near_limits(house, wish, needs, groups, at, rng.choice((0, -1, -1, -2)))
-                if near is not None:
-                    for deed in self.hold(*near):
-                        seen[wish[0], deed[0], is_granted(*near)] = True
+        for _, house, wish in samples.cases_near_limits(rng, 300, 4):
+            for deed in self.hold(house, wish):
+                seen[wish[0], deed[0], is_granted(house, wish)] = True
         for word in set(slow.STEPS) - set(slow.DEEDS):
             self.assertIn((word, "exit", True), seen)
             self.assertIn((word, "forget", True), seen)
