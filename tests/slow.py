@@ -564,3 +564,113 @@ def is_refusal_paper(house, wish, thing):
     if not integer(group, 0) or group >= len(last[2]) or last[2][group][1] is None:
         return False
     return group_live(last, group) > last[2][group][1]
+
+
+def many_times(house, process, many):
+    """The house in which there are so many processes with the group and the forest of this one, showing what it shows."""
+    born, row = house[3], [row for row in house[4] if row[0] == process][0]
+    numbers = range(born[0], born[0] + many - 1)
+
+    def grown(places):
+        return tuple(sorted(list(places) + [(number, page) for number in numbers for at, page in places if at == process]))
+
+    cells = tuple(sorted((content, sort, grown(places), readers) for content, sort, places, readers in house[6]))
+    rows = house[4] + tuple((number,) + row[1:] for number in numbers)
+    return house[:3] + ((born[0] + many - 1, born[1]), rows, house[5], cells, grown(house[7]))
+
+
+def numbers_with(house, process, many):
+    """The numbers of [28], from the house in which the process really is so often, all of its items being added."""
+    web_now, web_then = web(house), web(many_times(house, process, many))
+    copies = [process] + list(range(house[3][0], house[3][0] + many - 1))
+
+    def same(one, other):
+        return one == other or (one == process and other in copies)
+
+    tickets = tuple(sum(then[2] for then in web_then[0] if same(now[0], then[0]) and now[1] == then[1]) for now in web_now[0])
+    places = tuple(len([then for then in web_then[1] if same(now[0][0], then[0][0]) and now[0][1] == then[0][1]])
+                   for now in web_now[1])
+    return tickets, places, web_then[2]
+
+
+def is_spread(house, process, many, thing):
+    """Whether thing is a spread, by the words of [28]."""
+    found = web(house)
+    tickets, places, cells = numbers_with(house, process, many)
+    if type(thing) is not tuple or len(thing) != len(found[1]) or not all(integer(item, 0) for item in thing):
+        return False
+    if any(item > number for item, number in zip(thing, places)):
+        return False
+    for at, number in enumerate(tickets):
+        if sum(item for index, item in enumerate(thing) if at in held_by(found, index)) > number:
+            return False
+    return all(sum(item for row, item in zip(found[1], thing) if row[2] == at) <= number for at, number in enumerate(cells))
+
+
+def greatest_sum(house, process, many):
+    """The greatest sum of a spread, all of them being gone through."""
+    ranges = [range(number + 1) for number in numbers_with(house, process, many)[1]]
+    return max(sum(thing) for thing in product(*ranges) if is_spread(house, process, many, thing))
+
+
+def is_dealt(house, process, many, spread, lots):
+    """Whether the spread is dealt to the lots, by the words of [28]."""
+    if type(lots) is not list or len(lots) != many or not all(lot(pages) for pages in lots):
+        return False
+    row = [row for row in house[4] if row[0] == process][0]
+    told = {place[1]: count for (place, _, _), count in zip(web(house)[1], spread) if place[0] == process}
+    pages = {page for held in lots for page in held} | set(told)
+    if any(len([held for held in lots if page in held]) != told.get(page, 0) for page in pages):
+        return False
+    return all(len(set(held) & set(wide)) <= number for held in lots for wide, number in row[3])
+
+
+def entry(thing):
+    if type(thing) is not tuple or len(thing) != 3 or type(thing[0]) is not str or not integer(thing[1], 0):
+        return False
+    if thing[0] == "frame":
+        return type(thing[2]) is bool
+    return thing[2] is False and (thing[0] == "slot" or (thing[0] == "zero" and thing[1] == 0))
+
+
+def node(thing, height):
+    if type(thing) is not tuple or len(thing) != 4 or all(item is None for item in thing):
+        return False
+    return all(item is None or (entry(item) if height == 1 else node(item, height - 1)) for item in thing)
+
+
+def table(thing):
+    if type(thing) is not tuple or len(thing) != 2 or not integer(thing[0], 1) or thing[0] > 9:
+        return False
+    return thing[1] is None or node(thing[1], thing[0])
+
+
+def digits(page, depth):
+    """The digits of a page to the base four, the uppermost one first."""
+    return [page // 4 ** (depth - 1 - at) % 4 for at in range(depth)]
+
+
+def way(table, page):
+    """The items that a page leads to, from the root on, as far as there are any."""
+    found, at = [], table[1]
+    for digit in digits(page, table[0]) + [None]:
+        if at is None or page >= 4 ** table[0]:
+            return found
+        found.append(at)
+        at = at[digit] if digit is not None else None
+    return found
+
+
+def layout(house, thing):
+    """Whether thing is a layout, by the words of [31]."""
+    if type(thing) is not tuple or len(thing) != 2 or any(type(part) is not tuple for part in thing):
+        return False
+    if [len(part) for part in thing] != list(house[:2]):
+        return False
+    items = [item for part in thing for item in part if item is not None]
+    return all(cell(item) for item in items) and len(items) == len(house[6]) and all(items.count(item) == 1 for item in house[6])
+
+
+def is_open(cell, place):
+    """Whether a place is open in a cell that has it."""
+    return cell[1] == "common" or (cell[2] == (place,) and cell[3] == ())

@@ -7,7 +7,7 @@ import unittest
 
 HERE = os.path.dirname(os.path.abspath(__file__))
 FOLDER = os.path.join(HERE, "examples")
-NAMES = "cuts flat forests forms grants inside need steps worths".split()
+NAMES = "children cuts flat forests forms grants inside need steps tables".split()
 
 
 class Examples(unittest.TestCase):

@@ -33,6 +33,14 @@ FUNCTIONS = {
     "worths": """worth_of(house,process,lot) worth_within(house,group,process,lot) idle_part(house,process,lot)
         most_raise(house,process,lot) gives_back(house,wish,process,lot) idle(house) who_can_give(house,wish)
         deeds_that_help(house,wish)""",
+    "spreads": """numbers_with(house,process,many) spread_of(house,process,many) line_of(house,process,cut)
+        is_spread(house,process,many,thing) spread_cut(house,process,many) dealt(house,process,many,spread)""",
+    "children": """need_with(house,process,group,forest,many) costs_of_children(house,process,group,forest)
+        most_children(house,process,group,forest) stopped_by(house,process,group,forest)""",
+    "tables": """is_table(thing) depth_for(many) steps_to(table,page) nodes_many(table) table_of(depth,entries)
+        with_entry(table,page,entry) deeper(table) entries_of(table) entry_at(table,page)""",
+    "layouts": """is_layout(house,thing) first_layout(house) lies_at(layout,place) near_found(near,place) meaning(layout)
+        table_in(house,layout,process) near_with(near,most,entry) near_swept(near,layout)""",
 }
 
 ERRORS = """SwornError NoCommand(line) NoGroup(group) NoPlace(process,page) NoProcess(process) NoSnapshot(snapshot)
