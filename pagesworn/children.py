@@ -38,21 +38,20 @@ def crossing(line, other):
 
 
 def lines_between(once, child, low, high):
-    """The lines that the flow follows between two numbers, by falling steps.
+    """The lines that the flow follows between two numbers of children, by falling steps.
 
-    low and high are tuples (many, line) with a line that tells the flow there. If one line tells it at both, it
-    does so between them. Otherwise they cross there, and where the flow is less than both, a further cut is found.
+    low and high are tuples (many, line), the line telling the flow there. Up to where they cross the low line tells
+    no more than the high one, from there on no less. Where the flow is less than both, a further line tells it.
     """
-    if on_line(low[1], high[0]) == on_line(high[1], high[0]) or on_line(high[1], low[0]) == on_line(low[1], low[0]):
+    if on_line(low[1], high[0]) == on_line(high[1], high[0]):
         return []
     last = crossing(low[1], high[1])
-    left, right = line_at(once, child, last), line_at(once, child, last + 1)
-    found = []
-    if on_line(left, last) < on_line(low[1], last):
-        found = lines_between(once, child, low, (last, left)) + [left]
-    if on_line(right, last + 1) < on_line(high[1], last + 1):
-        found = found + [right] + lines_between(once, child, (last + 1, right), high)
-    return found
+    for many, least in ((last, low[1]), (last + 1, high[1])):
+        line = line_at(once, child, many)
+        if on_line(line, many) < on_line(least, many):
+            middle = (many, line)
+            return lines_between(once, child, low, middle) + [line] + lines_between(once, child, middle, high)
+    return []
 
 
 def lines_of(once, child):
@@ -76,7 +75,7 @@ def costs_of_children(house, process, group, forest):
     firsts = {0: True}
     for line, other in zip(lines, lines[1:]):
         if line[1] > other[1]:
-            # From where lines cross the cost is another one, and within the step over it, it can be one between.
+            # The cost changes where lines cross; if this is between two numbers, one child has a cost between theirs.
             last = crossing(line, other)
             firsts[last] = True
             firsts[last + 1] = True

@@ -256,6 +256,29 @@ def nested_web(rng, processes, pages, cells):
     return (tickets, places, tuple(rng.randint(1, 2) for _ in found))
 
 
+def knotted_house(rng, processes, pages):
+    """A house of nested tickets that let about half of their pages, most cells being shared by two places.
+
+    Who takes what comes first takes more of some cells than can be, so that others have to give way, one for another.
+    """
+    rows, free = [], []
+    for process in range(processes):
+        many = rng.randint(2, pages)
+        lots = sorted({lot for lot, _ in random_forest(rng, range(many), 8, 0)} | {tuple(range(many))})
+        rows.append((process, 0, many, tuple((lot, rng.randint(1, max(1, len(lot) * 2 // 3))) for lot in lots)))
+        free += [(process, page) for page in range(many)]
+    rng.shuffle(free)
+    zeros, cells = [], []
+    while free:
+        many = rng.choice((1, 2, 2, 2, 3))
+        if rng.random() < 0.3:
+            zeros += free[:many]
+        else:
+            cells.append((rng.randint(-9, 9), "own", tuple(sorted(free[:many])), ()))
+        free = free[many:]
+    return (9, 9, ((None, None),), (processes, 0), tuple(rows), (), tuple(sorted(cells)), tuple(sorted(zeros)))
+
+
 def some_flow(rng, web, lets):
     """A flow of the web to which nothing can simply be put, or one that is shorter."""
     chosen = []

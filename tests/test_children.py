@@ -52,6 +52,26 @@ def falling_house(sizes):
     return (NINE, 0, ((None, None),), (2, 0), rows, (), cells, ()), tuple(children)
 
 
+def crossed_house(rng, pages):
+    """A house whose parent shares most cells with one or two others, and a forest that lets a child copy most of them."""
+    many = rng.randint(2, 3)
+
+    def some_lots():
+        return {lot for lot, _ in samples.random_forest(rng, range(pages), 8, 0)}
+
+    child = tuple((lot, max(0, len(lot) - rng.choice((0, 1, 1, 1, 2)))) for lot in sorted(some_lots() or {tuple(range(pages))}))
+    rows = tuple((process, 0, pages, tuple((lot, max(0, len(lot) - rng.choice((0, 0, 0, 1, 3))))
+                                           for lot in sorted(some_lots() | {tuple(range(pages))}))) for process in range(many))
+    cells, zeros = [], []
+    for page in range(pages):
+        held = tuple((process, page) for process in range(many))
+        if rng.random() < 0.9:
+            cells.append((page, "own", held[:rng.choice((2, many))], ()))
+        else:
+            zeros += held
+    return (NINE, 0, ((None, None),), (many, 0), rows, (), tuple(sorted(cells)), tuple(sorted(zeros))), child
+
+
 def kept_house(rng, house):
     """The house with capacity and rooms of which it needs all but a few, or none at all."""
     needs, groups = need(house), group_needs(house)
@@ -141,6 +161,20 @@ class Costs(unittest.TestCase):
             costs = self.hold(house, 0, 0, forest, 3)
             seen |= {one[0] + 1 == other[0] for one, other in zip(costs, costs[1:])}
         self.assertEqual(seen, {True, False})
+
+    def test_where_others_have_to_give_way(self):
+        """Nested tickets and cells that several places share, so that lines of many cuts cross."""
+        rng = random.Random(131)
+        seen = set()
+        for _ in range(150):
+            house, forest = crossed_house(rng, rng.randint(3, 25))
+            seen.add(len(self.hold(house, 0, 0, forest, 4)))
+            for number in (1, 2, 4):
+                self.assertEqual(need_with(house, 0, 0, forest, number), need(behind_forks(house, ("fork", 0, 0, forest), number)))
+            house = samples.knotted_house(rng, rng.randint(2, 4), 15)
+            process, _, _, forest = rng.choice(house[4])
+            seen.add(len(self.hold(house, process, 0, forest, 3)))
+        self.assertTrue({1, 2, 3, 4} <= seen, seen)
 
     def test_it_is_new(self):
         house, forest = falling_house((2, 3))

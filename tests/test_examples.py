@@ -7,7 +7,7 @@ import unittest
 
 HERE = os.path.dirname(os.path.abspath(__file__))
 FOLDER = os.path.join(HERE, "examples")
-NAMES = "children cuts flat forests forms grants inside need steps tables".split()
+NAMES = "children cuts desk first flat forests forms grants inside machine need runs steps".split()
 
 
 class Examples(unittest.TestCase):

@@ -41,6 +41,17 @@ FUNCTIONS = {
         with_entry(table,page,entry) deeper(table) entries_of(table) entry_at(table,page)""",
     "layouts": """is_layout(house,thing) first_layout(house) lies_at(layout,place) near_found(near,place) meaning(layout)
         table_in(house,layout,process) near_with(near,most,entry) near_swept(near,layout)""",
+    "texts": "house_text(house) deed_line(step) script_text(script) read_house(text) read_deed(line) read_script(text)",
+    "runs": """behind_step(house,step) run(house,script) levels(house,script) run_flat(flat,script,answers)
+        first_unlike(flat,script,answers) agrees(house,script)""",
+}
+
+CLASSES = {
+    ("machine", "Machine(house,near)"): """read(process,page) do(deed) wish(wish) put_out(frame) bring(slot) turn(frame) house() layout() near()
+        marks() hand() hits() table(process) twin()""",
+    ("kernel", "Kernel(frames,slots)"): """do(deed) wish(wish) read(process,page) need() house() flow() paper() log() undo() redo() twin()
+        __eq__(other)""",
+    ("desk", "Desk(text)"): "execute(line) kernel() text()",
 }
 
 ERRORS = """SwornError NoCommand(line) NoGroup(group) NoPlace(process,page) NoProcess(process) NoSnapshot(snapshot)
@@ -58,6 +69,23 @@ class Interface(unittest.TestCase):
                     self.assertTrue(inspect.isfunction(function))
                     self.assertEqual(function.__module__, "pagesworn." + name)
                     self.assertEqual(",".join(inspect.signature(function).parameters), arguments)
+
+    def test_classes(self):
+        for (name, form), told in CLASSES.items():
+            module = importlib.import_module("pagesworn." + name)
+            made = getattr(module, form.split("(")[0])
+            self.assertTrue(inspect.isclass(made))
+            self.assertEqual(made.__module__, "pagesworn." + name)
+            for method in ["__init__" + form[form.index("("):]] + told.split():
+                word, arguments = method[:-1].split("(")
+                with self.subTest(form=form, method=word):
+                    function = vars(made)[word]
+                    self.assertTrue(inspect.isfunction(function))
+                    self.assertEqual(",".join(list(inspect.signature(function).parameters)[1:]), arguments)
+
+    def test_all_files_of_the_package(self):
+        told = set(FUNCTIONS) | {name for name, _ in CLASSES} | {"errors", "__init__"}
+        self.assertEqual({name[:-3] for name in os.listdir(PACKAGE) if name.endswith(".py")}, told)
 
     def test_errors(self):
         module = importlib.import_module("pagesworn.errors")

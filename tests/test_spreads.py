@@ -125,6 +125,24 @@ class Spreads(unittest.TestCase):
                 self.assertEqual(sum(spread), flow_many(web_of(slow.many_times(house, process, many))))
             self.assertEqual(sum(spread_of(house, process, 1)), flow_many(web_of(house)))
 
+    def test_where_others_have_to_give_way(self):
+        """Nested tickets and shared cells, in which a spread is widened often, over several places that take less."""
+        rng = random.Random(114)
+        for at in range(250):
+            house = samples.knotted_house(rng, rng.randint(2, 5), 12 if at % 5 else 40)
+            for row in house[4][:3]:
+                for many in (1, 2, 3, 50, GREAT):
+                    spread = self.hold(house, row[0], many)
+                    if many < 4:
+                        self.assertEqual(sum(spread), flow_many(web_of(slow.many_times(house, row[0], many))))
+        # For each of these pairs of pages the first one is given up, so that the other process can copy it.
+        lots = tuple(((2 * at, 2 * at + 1), 1) for at in range(20))
+        rows = ((0, 0, 40, lots), (1, 0, 20, tuple(((at,), 1) for at in range(20))))
+        cells = tuple((at, "own", ((0, 2 * at), (1, at)), ()) for at in range(20))
+        house = (9, 9, ((None, None),), (2, 0), rows, (), cells, tuple((0, 2 * at + 1) for at in range(20)))
+        self.assertTrue(is_house(house))
+        self.assertEqual([sum(self.hold(house, process, many)) for process in (0, 1) for many in (1, 2, 5)], [40, 60, 120, 40, 60, 120])
+
     def test_against_going_through_all(self):
         rng = random.Random(104)
         held = 0
