@@ -1,4 +1,4 @@
-"""Machines: the cells of a house lie in frames and slots and are moved about there, and nobody reads it."""
+"""Machines: the cells of a house lie in frames and slots and are moved about there, and no read can tell."""
 
 from pagesworn.deeds import behind_deed, cell_index, is_open, places_of_process
 from pagesworn.flat import content_of_cell

@@ -187,3 +187,34 @@ class Language(unittest.TestCase):
             self.holds(isinstance(node.exc, ast.Call) and isinstance(node.exc.func, ast.Name), path, node, "L19")
         for path, node in self.nodes(ast.ExceptHandler):
             self.holds(isinstance(node.type, (ast.Name, ast.Tuple)), path, node, "L6")
+
+    def test_only_own_errors_are_caught(self):
+        own = [node.name for _, node in self.nodes(ast.ClassDef)]
+        for path, node in self.nodes(ast.ExceptHandler):
+            names = node.type.elts if isinstance(node.type, ast.Tuple) else [node.type]
+            self.holds(all(name.id in own + ["KeyError"] for name in names) and node.name is None, path, node, "L19")
+
+    def test_methods_and_attributes_have_names_of_their_own(self):
+        attributes = {node.attr for _, node in self.nodes(ast.Attribute) if isinstance(node.ctx, ast.Store)}
+        for path, node in self.nodes(ast.ClassDef):
+            methods = [part.name for part in node.body if isinstance(part, ast.FunctionDef)]
+            self.holds(len(methods) == len(set(methods)) and not set(methods) & attributes, path, node, "L18")
+        read = {node.attr for _, node in self.nodes(ast.Attribute) if isinstance(node.ctx, ast.Load)}
+        for name in read - attributes:
+            self.assertTrue(self.is_own_method(name) or name in METHODS + ["__init__"], f"L18: {name}")
+
+    def test_double_underscore_methods(self):
+        for path, node in self.nodes(ast.FunctionDef):
+            if node.name.startswith("__"):
+                returns = [part for part in ast.walk(node) if isinstance(part, ast.Return)]
+                self.holds(node.name in ("__init__", "__eq__"), path, node, "L5")
+                self.holds(returns == [] if node.name == "__init__" else returns == node.body, path, node, "L28")
+
+    def test_modules_stand_in_their_order(self):
+        """Each file imports only from those that DOC.md lists above it."""
+        order = """errors forms forests leastforms flat deeds wishes webs flows cuts need keptflow inside grants refusals worths
+            spreads children tables layouts machine texts runs kernel desk""".split()
+        for path, node in self.nodes(ast.ImportFrom):
+            if node.module.startswith("pagesworn."):
+                own = os.path.basename(path)[:-3]
+                self.holds(order.index(node.module.split(".")[1]) < order.index(own), path, node, "the interface")
